@@ -1,0 +1,1 @@
+"""Pearlhall: rows of pearls, closed to rings."""
