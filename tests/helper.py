@@ -1,4 +1,17 @@
-"""What several test files need: rows to walk, and things that are no rows."""
+"""What several test files need: rows to walk, things that are no rows, and how a refusal is looked at."""
+
+from pearlhall.errors import NoBag, NoKeen, NoMix, NoRow, PearlError, TooMany
+
+REFUSALS = [NoRow, NoKeen, TooMany, NoMix, NoBag]
+
+
+def check_refused(case, refusal, call, *things):
+    """The call is refused with this refusal itself, and with none of the other four."""
+    with case.assertRaises(PearlError, msg=repr(things)) as caught:
+        call(*things)
+    for one in REFUSALS:
+        case.assertEqual(isinstance(caught.exception, one), one is refusal, (one, things))
+    case.assertIs(caught.exception.__class__, refusal)
 
 
 def rows_of(colours, most):
@@ -11,6 +24,27 @@ def rows_of(colours, most):
     return found
 
 
+def scattered_rows(colours, sizes):
+    """One row of each of the sizes, without any order in it, but the same ones in each run."""
+    found = []
+    state = 1
+    for size in sizes:
+        row = ""
+        for step in range(size):
+            state = (state * 1103515245 + 12345) % 2 ** 31
+            row += colours[(state >> 16) % len(colours)]
+        found.append(row)
+    return found
+
+
+def is_keen_by_words(row):
+    """The words of [6]."""
+    for place in range(1, len(row)):
+        if not row < row[place:]:
+            return False
+    return True
+
+
 LONG_ROWS = [
     "a" * 24,
     "ab" * 12,
@@ -21,6 +55,10 @@ LONG_ROWS = [
     "a" * 23 + "b",
     "b" + "a" * 23,
     "eabcdeabcdeabcdeabcdeabc",
+]
+
+SCATTERED_ROWS = [
+    row for colours in ("ab", "abc", "abcde") for row in scattered_rows(colours, list(range(9, 25)) + [24] * 20)
 ]
 
 # Short rows of few colours meet every shape; the long ones stand for the upper bound.

@@ -1,8 +1,7 @@
 import unittest
 
-from pearlhall.errors import NoBag, NoKeen, NoMix, NoRow, PearlError, TooMany
-
-REFUSALS = [NoRow, NoKeen, TooMany, NoMix, NoBag]
+from helper import REFUSALS
+from pearlhall.errors import PearlError
 
 
 class ErrorsTest(unittest.TestCase):

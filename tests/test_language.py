@@ -40,6 +40,17 @@ WITHIN_WORDS = ("dataclass", "overload", "contextmanager")
 PLAIN_NAME = re.compile(r"[A-Za-z][A-Za-z0-9_]*")
 UNDERSCORED = ("__init__", "__eq__", "__repr__", "__str__", "__len__")
 
+KEYWORDS = {
+    "sorted": ("key", "reverse"), "min": ("key", "default"), "max": ("key", "default"), "sum": ("start",),
+    "enumerate": ("start",), "zip": ("strict",),
+}
+WALKS = ("zip", "enumerate", "reversed", "range")
+WALKERS = ("list", "tuple", "dict", "sorted", "sum", "any", "all", "enumerate", "zip", "min", "max")
+
+
+def is_call_of(node, names):
+    return isinstance(node, ast.Call) and isinstance(node.func, ast.Name) and node.func.id in names
+
 
 def nodes_of(path):
     return list(ast.walk(ast.parse(path.read_text(encoding="utf-8"))))
@@ -163,6 +174,62 @@ class LanguageTest(unittest.TestCase):
         for place, node in self.each_node():
             if isinstance(node, ast.Constant) and isinstance(node.value, str):
                 self.assertNotIn("%", node.value, place)
+
+    def test_powers(self):
+        """L27"""
+        for place, node in self.each_node():
+            if isinstance(node, ast.BinOp) and isinstance(node.op, ast.Pow):
+                self.assertIsInstance(node.right, ast.Constant, place)
+
+    def test_keywords(self):
+        """L22"""
+        for place, node in self.each_node():
+            if isinstance(node, ast.Call) and node.keywords:
+                self.assertIsInstance(node.func, ast.Name, place)
+                for keyword in node.keywords:
+                    self.assertIn(keyword.arg, KEYWORDS.get(node.func.id, ()), place)
+
+    def test_walked_at_once(self):
+        """L23"""
+        for path in FILES:
+            nodes = nodes_of(path)
+            walked = [node.iter for node in nodes if isinstance(node, (ast.For, ast.comprehension))]
+            walked += [node.args[0] for node in nodes if is_call_of(node, WALKERS) and node.args]
+            for node in nodes:
+                if is_call_of(node, WALKS):
+                    self.assertIn(node, walked, f"{path.name}:{node.lineno}")
+
+    def test_sets(self):
+        """L24: here only straight within `sorted` or `len`"""
+        for path in FILES:
+            nodes = nodes_of(path)
+            used = [node.args[0] for node in nodes if is_call_of(node, ("sorted", "len")) and not node.keywords]
+            for node in nodes:
+                if is_call_of(node, ("set", "frozenset")) or isinstance(node, ast.Set):
+                    self.assertIn(node, used, f"{path.name}:{node.lineno}")
+
+    def test_no_local_is_called_like_an_import_or_a_def(self):
+        """L15"""
+        for path in FILES:
+            nodes = nodes_of(path)
+            taken = [alias.name for node in nodes if isinstance(node, ast.ImportFrom) for alias in node.names]
+            taken += [node.name for node in nodes if isinstance(node, (ast.FunctionDef, ast.ClassDef))]
+            for node in nodes:
+                if isinstance(node, (ast.arg, ast.Name)):
+                    for name in bound_names(node):
+                        self.assertNotIn(name, taken, f"{path.name}:{node.lineno}")
+
+    def test_imports_make_no_ring(self):
+        """L16"""
+        drawn = {}
+        for path in FILES:
+            sources = [node.module for node in nodes_of(path) if isinstance(node, ast.ImportFrom)]
+            drawn["pearlhall." + path.stem] = sources
+        while drawn:
+            free = [name for name, sources in drawn.items() if not any(source in drawn for source in sources)]
+            self.assertNotEqual(free, [], drawn)
+            for name in free:
+                drawn.pop(name)
 
 
 if __name__ == "__main__":
